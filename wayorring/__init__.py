@@ -1,0 +1,1 @@
+"""Wayorring: least test inputs with papers."""

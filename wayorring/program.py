@@ -1,0 +1,47 @@
+"""Programs and their statements."""
+
+
+class Program:
+    """A program that was read: its inputs, its functions and its body, as tuples."""
+
+    def __init__(self, inputs, functions, body):
+        self.inputs = inputs
+        self.functions = functions
+        self.body = body
+
+    @property
+    def unknowns(self):
+        """The list of (lo, hi) of the unknowns: one for a plain input, one for each item of a list input."""
+        return [(lo, hi) for name, size, lo, hi in self.inputs for item in range(max(size, 1))]
+
+    def same(self, other):
+        """True if all three attributes are equal, otherwise False."""
+        return self.inputs == other.inputs and self.functions == other.functions and self.body == other.body
+
+
+def statements_of(program):
+    """The list of all statements, also those within blocks and functions, by rows."""
+    found = []
+    for row, name, parameters, body in program.functions:
+        found.extend(_statements_in(body))
+    found.extend(_statements_in(program.body))
+    return found
+
+
+def blocks_of(statement):
+    """The blocks that stand directly within a statement, by rows."""
+    if statement[0] == "if":
+        return statement[3:5]
+    if statement[0] == "while":
+        return statement[4:5]
+    return ()
+
+
+def _statements_in(block):
+    """The statements of a block, each before those within it."""
+    found = []
+    for statement in block:
+        found.append(statement)
+        for inner in blocks_of(statement):
+            found.extend(_statements_in(inner))
+    return found
