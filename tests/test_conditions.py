@@ -45,6 +45,7 @@ class ReadComparisonTest(unittest.TestCase):
             "a < b)", "()", "(())", "(a)", "not", "not a", "not (a)", "a < b not", "a not < b", "not not", "a < not b",
             "and", "or", "A and", "and A", "A or", "or A", "A and and B", "A or or B", "A and or B", "A or and B",
             "A B", "A not B", "A and not", "A (B)", "(A) B", "(A)(B)", "(A and B", "A and B)", "A and (B or C",
+            "(A]", "(A,", "(A B", "(A and B]", "(A and B:", "(A] or B", "(A, and B", "not (A]", "[A)",
             "(A))", "((A)", ")A(", "not(", "A, B", "A and B, C", "[A]", "xs[A] < 1", "a < xs[b < c]", "if A", "A end",
             "A and B then C", "a < 01", "a < 12345678901", "abcdefghijklm < 1", "row < 1", "a < row", "a < xs[xs[0]]",
             "a + b < c", "a < b + c", "a + -5 < c", "A\n", "A\nand B", "A\tand B", "A && B", "a < 1.5", "a % 2 == 0",
