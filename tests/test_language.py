@@ -13,8 +13,7 @@ BARRED_NAMES = ("register", "mro", "elements", "open", "input", "law", "version_
 BUILTINS = (
     "abs all any bool bytes chr dict divmod enumerate filter format frozenset getattr hasattr hash id input int"
     " isinstance iter len list map max min next object open ord pow print property range repr reversed round set"
-    " setattr"
-    " sorted str sum super tuple type vars zip"
+    " setattr sorted str sum super tuple type vars zip"
 ).split()
 STATEMENTS = (
     ast.Assign, ast.AugAssign, ast.If, ast.While, ast.For, ast.Return, ast.Break, ast.Continue, ast.Pass, ast.Raise,
