@@ -15,6 +15,9 @@ BUILTINS = (
     " isinstance iter len list map max min next object open ord pow print property range repr reversed round set"
     " setattr sorted str sum super tuple type vars zip"
 ).split()
+# L12: not these, and not these with digits or underscores behind them.
+KEPT_NAMES = r"^_(cold|tuplegetter|outside|record|written_out|member_names)[0-9_]*$"
+KEPT_BEGINNINGS = r"^_(wall|pe_|dcw_|enum_|cm_|twin_re_|lay_|law_|stub_|sre|WallAttr)"
 STATEMENTS = (
     ast.Assign, ast.AugAssign, ast.If, ast.While, ast.For, ast.Return, ast.Break, ast.Continue, ast.Pass, ast.Raise,
     ast.Assert, ast.Delete, ast.Nonlocal, ast.Match, ast.With, ast.Try, ast.Expr, ast.FunctionDef, ast.ClassDef,
@@ -92,6 +95,8 @@ class LanguageTest(unittest.TestCase):
                 self.assertNotIn(bound, BARRED_NAMES, name)
                 self.assertNotIn(bound, BUILTINS, name)
                 self.assertRegex(bound, r"^(_|_?[A-Za-z][A-Za-z0-9_]*|__init__)$", name)
+                self.assertNotRegex(bound, KEPT_NAMES, name)
+                self.assertNotRegex(bound, KEPT_BEGINNINGS, name)
 
     def test_local_names_are_no_imports_or_classes(self):
         for name, text in package_files():
@@ -105,6 +110,34 @@ class LanguageTest(unittest.TestCase):
                     self.assertNotIn(node.arg, taken, name)
                 elif isinstance(node, ast.Name) and isinstance(node.ctx, ast.Store):
                     self.assertNotIn(node.id, taken, name)
+
+    def test_is_stands_beside_none_true_and_false_alone(self):
+        for name, text in package_files():
+            for node in ast.walk(ast.parse(text)):
+                if isinstance(node, ast.Compare) and isinstance(node.ops[0], (ast.Is, ast.IsNot)):
+                    self.assertIsInstance(node.comparators[0], ast.Constant, (name, node.lineno))
+                    self.assertIn(node.comparators[0].value, (None, True, False), (name, node.lineno))
+
+    def test_no_name_is_a_method_and_an_attribute(self):
+        methods, attributes = set(), set()
+        for name, text in package_files():
+            for node in ast.walk(ast.parse(text)):
+                if isinstance(node, ast.ClassDef):
+                    methods.update(each.name for each in node.body if isinstance(each, ast.FunctionDef))
+                elif isinstance(node, ast.Attribute) and isinstance(node.ctx, ast.Store):
+                    attributes.add(node.attr)
+        self.assertEqual(methods & attributes, set())
+
+    def test_no_two_files_import_from_each_other(self):
+        imports = {}
+        for name, text in package_files():
+            nodes = [node for node in ast.walk(ast.parse(text)) if isinstance(node, ast.ImportFrom)]
+            imports[name[:-3]] = {node.module.split(".")[1] for node in nodes}
+        while imports:
+            free = [name for name, needed in imports.items() if not needed & set(imports)]
+            self.assertTrue(free, imports)
+            for name in free:
+                del imports[name]
 
     def test_barred_words(self):
         for name, text in package_files():

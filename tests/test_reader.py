@@ -1,28 +1,9 @@
 import unittest
 
+from samples import LATER
 from wayorring.errors import BadText
 from wayorring.program import Program
 from wayorring.reader import read_program
-
-FULL = """\
-input a from 0 to 99
-input xs list 3 from -5 to 1000000
-def later(x, top)
-  if x < top
-    return x + 1
-  end
-  return top
-end
-let i = 0
-let best from 0 to 2000000 = a
-while i < 3 at most 3
-  if xs[i] > best and not xs[i] == a
-    best = xs[i]
-  end
-  i = later(i, 3)
-end
-check best >= a
-answer best - 1"""
 
 X = ("var", "x", 0)
 TOP = ("var", "top", 0)
@@ -82,7 +63,7 @@ class Case(unittest.TestCase):
 class ReadProgramTest(Case):
 
     def test_the_whole_program(self):
-        program = read_program(FULL)
+        program = read_program(LATER)
         self.assertIsInstance(program, Program)
         self.assertEqual(program.inputs, FULL_INPUTS)
         self.assertEqual(program.functions, FULL_FUNCTIONS)
@@ -90,19 +71,19 @@ class ReadProgramTest(Case):
 
     def test_spaces(self):
         rows = []
-        for row in FULL.split("\n"):
+        for row in LATER.split("\n"):
             for sign in ("(", ")", "[", "]", ",", "-", "+"):
                 row = row.replace(sign, " " + sign + " ")
             rows.append("     " + row.strip().replace(" ", "   ") + "  ")
-        self.assertTrue(read_program(text(*rows)).same(read_program(FULL)))
-        close = FULL.replace(" = ", "=").replace(", ", ",").replace(" > ", ">").replace(" + ", "+").replace("    ", "")
-        self.assertTrue(read_program(close).same(read_program(FULL)))
+        self.assertTrue(read_program(text(*rows)).same(read_program(LATER)))
+        close = LATER.replace(" = ", "=").replace(", ", ",").replace(" > ", ">").replace(" + ", "+").replace("    ", "")
+        self.assertTrue(read_program(close).same(read_program(LATER)))
 
     def test_the_answer_does_not_hang_on_what_was_read_before(self):
-        first = read_program(FULL)
+        first = read_program(LATER)
         with self.assertRaises(BadText):
             read_program(HEAD + "\nif a < 1")
-        self.assertTrue(read_program(FULL).same(first))
+        self.assertTrue(read_program(LATER).same(first))
 
     def test_inputs(self):
         program = read_program(text("input a from -0 to -5", "input xs list 12 from - 7 to 9999999999", "skip"))

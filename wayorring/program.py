@@ -23,9 +23,24 @@ def statements_of(program):
     """The list of all statements, also those within blocks and functions, by rows."""
     found = []
     for row, name, parameters, body in program.functions:
-        found.extend(_statements_in(body))
-    found.extend(_statements_in(program.body))
+        found.extend(statements_in(body))
+    found.extend(statements_in(program.body))
     return found
+
+
+def input_variables(program, items):
+    """The variables that a run begins with; the items are what the unknowns stand for, in order."""
+    variables = {}
+    at = 0
+    for name, size, lo, hi in program.inputs:
+        variables[name] = list(items[at:at + size]) if size else items[at]
+        at += max(size, 1)
+    return variables
+
+
+def ranges_of(body):
+    """The ranges (lo, hi) that are told in a body, by the names of the variables that keep them."""
+    return {let[2]: (let[3], let[4]) for let in body if let[0] == "let" and let[3] is not None}
 
 
 def blocks_of(statement):
@@ -37,11 +52,11 @@ def blocks_of(statement):
     return ()
 
 
-def _statements_in(block):
+def statements_in(block):
     """The statements of a block, each before those within it."""
     found = []
     for statement in block:
         found.append(statement)
         for inner in blocks_of(statement):
-            found.extend(_statements_in(inner))
+            found.extend(statements_in(inner))
     return found

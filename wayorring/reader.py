@@ -14,7 +14,7 @@ def read_program(text):
     builder = Builder()
     for row, line in enumerate(lines, start=1):
         words = split_row(line)
-        if not words or not builder.take(row, words):
+        if not words or not builder.take_row(row, words):
             raise BadText(row)
     if not builder.is_complete():
         raise BadText(len(lines) + 1)
@@ -69,7 +69,7 @@ class Builder:
         """True if the text may end here."""
         return not self.blocks and bool(self.body)
 
-    def take(self, row, words):
+    def take_row(self, row, words):
         """Takes the words of the next row."""
         if words[0] == "input":
             return self._take_input(words)

@@ -18,14 +18,22 @@ def value_of(expression, variables):
 
 def truth_of(condition, variables):
     """True or False, or None if an index that is needed is outside."""
+    return joined_truth(condition, lambda comparison: _comparison_truth(comparison, variables))
+
+
+def joined_truth(condition, judge):
+    """The truth of a condition whose comparisons are judged, from left to right and only as far as needed.
+
+    judge gives True or False for a comparison; where it gives None, the condition has no truth, and None is given.
+    """
     if condition[0] == "cmp":
-        return _comparison_truth(condition, variables)
+        return judge(condition)
     if condition[0] == "not":
-        truth = truth_of(condition[1], variables)
+        truth = joined_truth(condition[1], judge)
         return None if truth is None else not truth
     ending = condition[0] == "or"
     for part in condition[1]:
-        truth = truth_of(part, variables)
+        truth = joined_truth(part, judge)
         if truth is None or truth == ending:
             return truth
     return not ending
