@@ -2,6 +2,14 @@ import importlib
 import inspect
 import unittest
 
+from wayorring.formrun import FormRun
+from wayorring.meaning import run_program
+from wayorring.program import Program
+from wayorring.reader import read_program
+from wayorring.systems import System
+from wayorring.walks import PlaceWalk
+from wayorring.watch import Watch
+
 INTERFACE = {
     "errors": (
         ("WayError", None), ("BadLine", None), ("BadText", None), ("BadProgram", None), ("BadPaper", None),
@@ -18,6 +26,31 @@ INTERFACE = {
     "writer": (("write_program", ["program"]), ("write_statement", ["statement"])),
     "checks": (("weight_of", ["statements", "program"]), ("check_program", ["program"])),
     "values": (("value_of", ["expression", "variables"]), ("truth_of", ["condition", "variables"])),
+    "watch": (("Watch", ["place"]),),
+    "meaning": (("Run", None), ("run_program", ["program", "inputs", "place"])),
+    "chains": (
+        ("chain_sum", ["differences", "numbers"]), ("is_ring", ["differences", "numbers"]),
+        ("floor_value", ["differences", "numbers", "unknown"]), ("keeps", ["differences", "values"]),
+    ),
+    "systems": (("System", ["many"]),),
+    "ways": (
+        ("compare_ways", ["sign", "left", "right"]), ("index_ways", ["form", "size"]),
+        ("range_ways", ["form", "lo", "hi"]),
+        ("form_value", ["form", "inputs"]),
+    ),
+    "formrun": (("FormRun", ["program", "inputs"]),),
+    "places": (
+        ("read_place", ["text"]), ("write_place", ["place"]), ("check_place", ["program", "place"]),
+        ("standing", ["program"]),
+    ),
+    "walks": (("PlaceWalk", ["program", "place"]),),
+}
+METHODS = {
+    Program: (("same", ["other"]),),
+    Watch: (("wanted", ["event"]), ("see", ["event", "truth"])),
+    System: (("tie", ["difference"]), ("bound", ["u", "v"]), ("floors", []), ("least_values", []), ("twin", [])),
+    FormRun: (("advance", []), ("take", ["number"]), ("twin", [])),
+    PlaceWalk: (("advance", []), ("ways", []), ("take", ["number"]), ("twin", [])),
 }
 
 
@@ -31,6 +64,28 @@ class InterfaceTest(unittest.TestCase):
                 self.assertEqual(made.__module__, "wayorring." + file, name)
                 if arguments is not None:
                     self.assertEqual(list(inspect.signature(made).parameters), arguments, name)
+
+    def test_methods_stand_in_the_class_itself(self):
+        for made, told in METHODS.items():
+            for name, arguments in told:
+                self.assertIn(name, vars(made))
+                self.assertEqual(list(inspect.signature(vars(made)[name]).parameters), ["self"] + arguments, name)
+
+    def test_arguments_that_are_passed_by_name(self):
+        for function, name, default in ((run_program, "place", ()), (FormRun, "inputs", None)):
+            parameter = inspect.signature(function).parameters[name]
+            self.assertEqual((parameter.kind, parameter.default), (parameter.KEYWORD_ONLY, default))
+
+    def test_attributes_are_set_when_the_object_is_made(self):
+        program = read_program("input a from 0 to 9\nskip")
+        for made, names in (
+            (Watch(()), ["progress"]), (run_program(program, [1]), ["outcome", "events", "met"]),
+            (System(1), ["differences"]),
+            (FormRun(program), ["events", "outcome", "question", "variables"]),
+            (PlaceWalk(program, ()), ["many", "differences", "run"]),
+        ):
+            for name in names:
+                self.assertIn(name, vars(made))
 
 
 if __name__ == "__main__":

@@ -20,6 +20,34 @@ def bounds_are_good(lo, hi):
     return -MOST_BOUND <= lo <= hi <= MOST_BOUND
 
 
+def input_shapes(inputs):
+    """The shapes of the names that the program's body begins with."""
+    return {name: ITEMS if size else NUMBER for name, size, lo, hi in inputs}
+
+
+def parameter_shapes(parameters):
+    """The shapes of the names that a function's body begins with."""
+    return {parameter: NUMBER for parameter in parameters}
+
+
+def declared_shapes(statement):
+    """The shape of the name that a statement declares, by that name; empty if it declares none."""
+    if statement[0] not in ("let", "list"):
+        return {}
+    return {statement[2]: NUMBER if statement[0] == "let" else ITEMS}
+
+
+def expression_is_good(expression, shapes):
+    """True if an expression uses names as their shapes tell and has no number that is too great."""
+    if abs(expression[-1]) > MOST_NUMBER:
+        return False
+    if expression[0] == "num":
+        return True
+    if expression[0] == "var":
+        return _has_shape(expression[1], NUMBER, shapes)
+    return _has_shape(expression[1], ITEMS, shapes) and expression_is_good(expression[2], shapes)
+
+
 class BodyCheck:
     """Goes through a body by rows and knows the names that are declared above.
 
@@ -39,15 +67,14 @@ class BodyCheck:
         for statement in block:
             if deep > MOST_BLOCKS or not self._is_good(statement, deep):
                 wrong.append(statement[1])
-            if statement[0] in ("let", "list"):
-                self.shapes[statement[2]] = NUMBER if statement[0] == "let" else ITEMS
+            self.shapes.update(declared_shapes(statement))
             for inner in blocks_of(statement):
                 wrong.extend(self.wrong_rows(inner, deep + 1))
         return wrong
 
     def _is_good(self, statement, deep):
         for expression in expressions_of(statement):
-            if not self._expression_is_good(expression):
+            if not expression_is_good(expression, self.shapes):
                 return False
         kind = statement[0]
         if kind in ("let", "list"):
@@ -64,15 +91,6 @@ class BodyCheck:
             return self.inside == (kind == "return")
         return True
 
-    def _expression_is_good(self, expression):
-        if abs(expression[-1]) > MOST_NUMBER:
-            return False
-        if expression[0] == "num":
-            return True
-        if expression[0] == "var":
-            return self._has_shape(expression[1], NUMBER)
-        return self._has_shape(expression[1], ITEMS) and self._expression_is_good(expression[2])
-
     def _declaration_is_good(self, statement):
         if statement[2] in self.shapes:
             return False
@@ -82,14 +100,15 @@ class BodyCheck:
 
     def _assignment_is_good(self, statement):
         shape = ITEMS if statement[0] == "put" else NUMBER
-        if statement[2] in self.fixed or not self._has_shape(statement[2], shape):
+        if statement[2] in self.fixed or not _has_shape(statement[2], shape, self.shapes):
             return False
         if statement[0] != "call":
             return True
         return statement[3] in self.functions and self.functions[statement[3]] == len(statement[4])
 
-    def _has_shape(self, name, shape):
-        return name in self.shapes and self.shapes[name] == shape
+
+def _has_shape(name, shape, shapes):
+    return name in shapes and shapes[name] == shape
 
 
 def _condition_is_good(condition):

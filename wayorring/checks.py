@@ -1,6 +1,6 @@
 """Whether a program is good, and how much it weighs."""
 
-from wayorring.bodies import ITEMS, MOST_SIZE, NUMBER, BodyCheck, bounds_are_good
+from wayorring.bodies import MOST_SIZE, BodyCheck, bounds_are_good, input_shapes, parameter_shapes
 from wayorring.errors import BadProgram, TooLong
 from wayorring.program import statements_of
 
@@ -90,12 +90,10 @@ def _wrong_statements(program):
     wrong = []
     callees = {}
     for row, name, parameters, body in program.functions:
-        shapes = {parameter: NUMBER for parameter in parameters}
-        check = BodyCheck(shapes, (), callees, True)
+        check = BodyCheck(parameter_shapes(parameters), (), callees, True)
         wrong.extend(check.wrong_rows(body, 0))
         callees[name] = len(parameters)
-    shapes = {name: ITEMS if size else NUMBER for name, size, lo, hi in program.inputs}
     fixed = [told[0] for told in program.inputs]
-    check = BodyCheck(shapes, fixed, callees, False)
+    check = BodyCheck(input_shapes(program.inputs), fixed, callees, False)
     wrong.extend(check.wrong_rows(program.body, 0))
     return wrong

@@ -38,6 +38,11 @@ def signed_of(words):
     return _whole(_take_signed(words, 0), words)
 
 
+def comparison_of(words):
+    """The comparison without parentheses that these words are, or None."""
+    return _whole(_take_comparison(words, 0), words)
+
+
 def condition_of(words):
     """The condition that these words are, or None."""
     return _whole(_take_joined(words, 0, "or", 0), words)

@@ -4,7 +4,7 @@ Each function gets the words of a row and gives what the row is, or None if it d
 """
 
 from wayorring.expressions import condition_of, expression_of, plain_of, signed_of
-from wayorring.words import is_name, is_number, word_at
+from wayorring.words import is_name, is_number, parts_between, word_at
 
 
 def input_of(words):
@@ -139,15 +139,7 @@ def _halves(words):
 
 def _parts_between_commas(words):
     """The lists of words between commas, none if there are no words."""
-    if not words:
-        return []
-    parts = [[]]
-    for word in words:
-        if word == ",":
-            parts.append([])
-        else:
-            parts[-1].append(word)
-    return parts
+    return parts_between(words, ",") if words else []
 
 
 FORMS = {

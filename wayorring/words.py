@@ -49,6 +49,17 @@ def word_at(words, at):
     return words[at] if at < len(words) else ""
 
 
+def parts_between(words, joint):
+    """The lists of the words before, between and behind the words that are a joint."""
+    parts = [[]]
+    for word in words:
+        if word == joint:
+            parts.append([])
+        else:
+            parts[-1].append(word)
+    return parts
+
+
 def _word_end(text, at):
     """The place behind the word that begins at a place; that place itself if none does."""
     if text[at] in LETTERS:
