@@ -3,8 +3,12 @@
 import itertools
 import random
 
+from wayorring.chains import floor_value, is_ring, keeps
 from wayorring.checks import check_program
-from wayorring.errors import BadProgram, TooLong
+from wayorring.errors import BadPlace, BadProgram, TooLong
+from wayorring.meaning import run_program
+from wayorring.places import check_place, read_place, standing
+from wayorring.program import statements_of
 from wayorring.reader import read_program
 
 WORDS = {"r": "row", "y": "yes", "n": "no", "t": "turn", "f": "fault"}
@@ -127,6 +131,59 @@ def random_programs(many, seed):
     return found
 
 
+def few_inputs(programs, most):
+    """Those of the programs that have at most so many inputs."""
+    return [program for program in programs if len(all_inputs(program)) <= most]
+
+
+def runs_of(program, place=()):
+    """The runs of all inputs of a program, by the inputs as tuples, the least first."""
+    return {tuple(inputs): run_program(program, inputs, place=place) for inputs in all_inputs(program)}
+
+
+def verdict_of_all(program, place):
+    """The verdict that all inputs of a program, tried one by one, make right."""
+    for inputs, run in runs_of(program, place).items():
+        if run.met is not None:
+            return ("found", inputs)
+    return ("none",)
+
+
+def unlike(one, other):
+    """Whether two outcomes of runs with inputs are unlike."""
+    if one[0] != other[0]:
+        return True
+    return one[2] != other[2] if one[0] == "fault" else one != other
+
+
+def some_places(program, many, seed):
+    """Good places of a program, made by chance: one to three atoms, some of them with a "when"."""
+    chance = random.Random(seed)
+    atoms = standing(program)
+    while len(atoms) < 2 * len(standing(program)):
+        atoms.append(some_when(program, chance))
+    return [tuple(chance.choice(atoms) for _ in range(chance.randint(1, 3))) for _ in range(many)]
+
+
+def some_when(program, chance):
+    """A good atom with a "when"."""
+    names = [told[0] for told in program.inputs] + ["m", "n", "o", "u", "v", "w", "x", "y", "z"]
+    rows = [statement[1] for statement in statements_of(program)]
+    while True:
+        sides = []
+        for _ in range(2):
+            index = f"[{chance.choice(names + ['0', '1', '2'])}]" if chance.random() < 0.3 else ""
+            name = chance.choice(names) + index
+            sides.append(name if chance.random() < 0.7 else str(chance.randint(-1, 3)))
+        sign = chance.choice(["<", "<=", ">", ">=", "==", "!="])
+        place = read_place(f"when {chance.choice(rows)}: {sides[0]} {sign} {sides[1]}")
+        try:
+            check_place(program, place)
+        except BadPlace:
+            continue
+        return place[0]
+
+
 class Maker:
     """Makes the text of a program by chance."""
 
@@ -247,3 +304,104 @@ class Maker:
         if self.numbers and self.chance.random() < 0.75:
             return self.chance.choice(self.numbers) + self.chance.choice(["", "", " + 1", " - 1"])
         return str(self.chance.randint(-1, 3))
+
+
+def least_values(program, differences):
+    """The least values that keep the differences, found among all inputs; None if none do."""
+    kept = [inputs for inputs in all_inputs(program) if keeps(differences, inputs)]
+    return tuple(min(column) for column in zip(*kept)) if kept else None
+
+
+class Tree:
+    """The tree of a walk from its point on, gone through with all inputs of a program with small ranges.
+
+    tokens has None in the place of rings and the least values in the place of floors; ways has for each token the
+    differences that stand there; least has the least values where the place is met; ended has for each run that is
+    over, or has met the place, the differences, the least values, the events and the outcome.
+    """
+
+    def __init__(self, program, walk):
+        self.program = program
+        self.tokens = []
+        self.ways = []
+        self.least = []
+        self.ended = []
+        self.rows = {}
+        self.go(walk)
+
+    def go(self, walk):
+        word = walk.advance()
+        if word == "ask":
+            for number, differences in enumerate(walk.ways()):
+                behind = walk.twin()
+                behind.take(number)
+                dead = least_values(self.program, behind.differences) is None
+                self.add(("dead", None) if dead else ("on",), behind)
+                if not dead:
+                    self.go(behind)
+            return
+        least = least_values(self.program, walk.differences)
+        self.add(("met", least) if word == "met" else ("over",), walk)
+        if word == "met":
+            self.least.append(least)
+        self.rows.update({event[1]: True for event in walk.run.events if event[0] == "row"})
+        self.ended.append((tuple(walk.differences), least, tuple(walk.run.events), walk.run.outcome))
+
+    def add(self, token, walk):
+        self.tokens.append(token)
+        self.ways.append(list(walk.differences))
+
+    def shown(self, tokens):
+        """The tokens of a paper, with rings and floors as in those of the tree; wrong ones become a text."""
+        found = []
+        for token, differences in zip(tokens, self.ways):
+            if token[0] == "dead":
+                token = ("dead", None if is_ring(differences, token[1]) else "no ring")
+            elif token[0] == "met":
+                floors = enumerate(token[1], start=1)
+                token = ("met", tuple(floor_value(differences, floor, k) for k, floor in floors))
+            found.append(token)
+        return found + list(tokens[len(self.ways):])
+
+
+def checks_of(many):
+    """The rows of a program whose tree has one end more than so many questions, one for each; many is 1 to 4096."""
+    rows = ["input a from 0 to 9", "let i = 0", "let j = 0", "while i < 7 at most 7", "j = 0", "while j < 5 at most 5"]
+    for size in parts_of(many // 35):
+        rows.append("check " + " and ".join(["a >= 0"] * size))
+    rows += ["j = j + 1", "end", "i = i + 1", "end"]
+    for size in parts_of(many % 35):
+        rows.append("check " + " and ".join(["a >= 0"] * size))
+    return rows + ["answer a"]
+
+
+def parts_of(number):
+    """A number as a sum of numbers up to 6."""
+    return [6] * (number // 6) + [number % 6] * (number % 6 > 0)
+
+
+def choosing_program(seed):
+    """A program with one input of a few numbers; its ifs choose among them by chance. All its rows are reached."""
+    chance = random.Random(seed)
+    many = chance.randint(3, 7)
+    rows = [f"input a from 1 to {many}"]
+    while len(rows) < 54:
+        chosen = sorted(chance.sample(range(1, many + 1), chance.randint(1, min(many - 1, 4))))
+        rows.append("if " + " or ".join([f"a == {number}" for number in chosen]))
+        rows += ["skip"] * chance.choice([0, 0, 1, 1, 2, 3, 4]) + ["end"]
+    return program_of(*rows)
+
+
+def counting_program(seed):
+    """A program of two inputs that answers a number, made by chance; many of its changes can be told apart."""
+    chance = random.Random(seed)
+    rows = ["input a from 0 to 4", f"input b from {chance.randint(-3, 0)} to 3", "let c = a"]
+    for _ in range(chance.randint(2, 4)):
+        conditions = []
+        for _ in range(chance.randint(1, 3)):
+            sign = chance.choice(["<", "<=", ">", ">=", "==", "!="])
+            conditions.append(f"{chance.choice('abc')} {sign} {chance.choice(['b', 'c - 1', '1', '2', '3'])}")
+        rows.append("if " + chance.choice([" and ", " or "]).join(conditions))
+        rows.append(chance.choice(["c = c + 1", "c = b", "answer b", "refuse odd", "c = 2"]))
+        rows += ["else", chance.choice(["skip", "answer 7", "c = 1"])] * chance.randint(0, 1) + ["end"]
+    return program_of(*rows, chance.choice(["answer c", "check c > 1", "answer c + 1"]))

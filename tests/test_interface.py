@@ -2,10 +2,16 @@ import importlib
 import inspect
 import unittest
 
+from wayorring.apart import PairWalk
+from wayorring.book import Book
+from wayorring.changes import list_changes
 from wayorring.formrun import FormRun
 from wayorring.meaning import run_program
+from wayorring.papers import Paper
 from wayorring.program import Program
 from wayorring.reader import read_program
+from wayorring.search import find_least
+from wayorring.survey import survey_program
 from wayorring.systems import System
 from wayorring.walks import PlaceWalk
 from wayorring.watch import Watch
@@ -44,6 +50,25 @@ INTERFACE = {
         ("standing", ["program"]),
     ),
     "walks": (("PlaceWalk", ["program", "place"]),),
+    "papers": (
+        ("Paper", ["text", "subject", "verdict", "tokens"]), ("write_paper", ["paper"]), ("read_paper", ["text"]),
+    ),
+    "search": (("explore", ["walk"]), ("find_least", ["program", "place"])),
+    "checker": (("follow", ["walk", "tokens"]), ("check_paper", ["program", "place", "paper"])),
+    "survey": (
+        ("Way", None), ("survey_program", ["program"]), ("way_of", ["ways", "inputs"]), ("reachable", ["ways"]),
+    ),
+    "suite": (("make_suite", ["program"]), ("unreachable", ["program"])),
+    "shortest": (
+        ("greatest_sets", ["ways"]), ("shortest_suite", ["program"]), ("check_shortest", ["sets", "many", "paper"]),
+    ),
+    "changes": (("Change", None), ("list_changes", ["program"])),
+    "apart": (
+        ("PairWalk", ["first", "second"]), ("tell_apart", ["first", "second"]),
+        ("check_apart", ["first", "second", "paper"]), ("score_changes", ["program", "inputs"]),
+        ("strong_suite", ["program"]),
+    ),
+    "book": (("Book", ["program"]),),
 }
 METHODS = {
     Program: (("same", ["other"]),),
@@ -51,6 +76,9 @@ METHODS = {
     System: (("tie", ["difference"]), ("bound", ["u", "v"]), ("floors", []), ("least_values", []), ("twin", [])),
     FormRun: (("advance", []), ("take", ["number"]), ("twin", [])),
     PlaceWalk: (("advance", []), ("ways", []), ("take", ["number"]), ("twin", [])),
+    Paper: (("same", ["other"]),),
+    PairWalk: (("advance", []), ("ways", []), ("take", ["number"]), ("twin", [])),
+    Book: (("ask", ["place"]), ("edit", ["row", "line"])),
 }
 
 
@@ -83,9 +111,18 @@ class InterfaceTest(unittest.TestCase):
             (System(1), ["differences"]),
             (FormRun(program), ["events", "outcome", "question", "variables"]),
             (PlaceWalk(program, ()), ["many", "differences", "run"]),
+            (PairWalk(program, program), ["many", "differences", "run"]),
+            (find_least(program, (("row", 2),)), ["text", "subject", "verdict", "tokens"]),
+            (survey_program(program)[0], ["differences", "least", "events", "outcome"]),
+            (list_changes(read_program("input a from 0 to 9\nanswer a"))[0], ["row", "kind", "program"]),
+            (Book(program), ["program"]),
         ):
             for name in names:
                 self.assertIn(name, vars(made))
+
+    def test_properties_stand_in_the_class_itself(self):
+        self.assertIsInstance(vars(Program)["unknowns"], property)
+        self.assertIsInstance(vars(Book)["searched"], property)
 
 
 if __name__ == "__main__":

@@ -31,6 +31,15 @@ def check_program(program):
         raise TooLong("the body weighs too much")
 
 
+def is_good(program):
+    """True if a program is good and not too long, otherwise False."""
+    try:
+        check_program(program)
+    except (BadProgram, TooLong):
+        return False
+    return True
+
+
 def _block_weight(block, weights):
     """The weight of a block, with the weights of the functions that it calls."""
     return sum([_statement_weight(statement, weights) for statement in block])

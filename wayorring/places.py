@@ -38,6 +38,15 @@ def check_place(program, place):
             raise BadPlace("an atom is not good for the program")
 
 
+def place_is_good(program, place):
+    """True if the place is good for the program, otherwise False."""
+    try:
+        check_place(program, place)
+    except BadPlace:
+        return False
+    return True
+
+
 def standing(program):
     """The list of all atoms, ascending, that are good for the program, except for "when"."""
     found = []

@@ -43,6 +43,14 @@ def ranges_of(body):
     return {let[2]: (let[3], let[4]) for let in body if let[0] == "let" and let[3] is not None}
 
 
+def with_statement(program, statement):
+    """The program with this statement in its row; an if or while gets the blocks that stand there."""
+    functions = []
+    for row, name, parameters, body in program.functions:
+        functions.append((row, name, parameters, _block_with(body, statement)))
+    return Program(program.inputs, tuple(functions), _block_with(program.body, statement))
+
+
 def blocks_of(statement):
     """The blocks that stand directly within a statement, by rows."""
     if statement[0] == "if":
@@ -60,3 +68,19 @@ def statements_in(block):
         for inner in blocks_of(statement):
             found.extend(statements_in(inner))
     return found
+
+
+def _block_with(block, statement):
+    return tuple([_replaced(old, statement) for old in block])
+
+
+def _replaced(old, statement):
+    """What becomes of an old statement if this one takes its row, or a row within it."""
+    blocks = blocks_of(old)
+    if old[1] == statement[1]:
+        return _without_blocks(statement) + blocks
+    return _without_blocks(old) + tuple([_block_with(block, statement) for block in blocks])
+
+
+def _without_blocks(statement):
+    return statement[:len(statement) - len(blocks_of(statement))]

@@ -37,7 +37,12 @@ def is_name(word):
 
 def is_number(word):
     """True if a text is a number, otherwise False."""
-    if not 1 <= len(word) <= MOST_DIGITS:
+    return is_numeral(word, MOST_DIGITS)
+
+
+def is_numeral(word, most):
+    """True if a text is a run of at most so many digits without a leading zero, except for 0 itself."""
+    if not 1 <= len(word) <= most:
         return False
     if word[0] == "0":
         return word == "0"
