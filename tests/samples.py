@@ -93,6 +93,19 @@ def program_of(*rows):
     return read_program("\n".join(rows))
 
 
+BAD = program_of("input a from 0 to 9", "skip", "b = 3")
+TOO_LONG = program_of("input a from 0 to 9", *["while a < 3 at most 8"] * 3, "skip", "skip", *["end"] * 3)
+
+
+def check_refusals(case, call):
+    """Looks whether a call of a program refuses one that is not good, with its row, and one that is too long."""
+    with case.assertRaises(BadProgram) as caught:
+        call(BAD)
+    case.assertEqual(caught.exception.row, 3)
+    with case.assertRaises(TooLong):
+        call(TOO_LONG)
+
+
 def events_of(told):
     """The events that are told in short: "r2 y3 t4.1 f5.index"."""
     found = []

@@ -2,7 +2,8 @@ import random
 import unittest
 
 from samples import (
-    LATER, SMALL, all_inputs, checks_of, counting_program, few_inputs, program_of, random_programs, unlike)
+    LATER, SMALL, TOO_LONG, all_inputs, check_refusals, checks_of, counting_program, few_inputs, program_of,
+    random_programs, unlike)
 from wayorring.apart import PairWalk, check_apart, score_changes, strong_suite, tell_apart
 from wayorring.changes import list_changes
 from wayorring.checker import follow
@@ -16,9 +17,9 @@ from wayorring.writer import write_program
 HEAD = "input a from 0 to 9"
 PAIR = [HEAD, "input b from 0 to 9"]
 ON, OVER = ("on",), ("over",)
-LONG = [HEAD, *["while a < 3 at most 8"] * 3, "skip", "skip", *["end"] * 3]
 PROGRAMS = [read_program(text) for text in SMALL] + few_inputs(random_programs(20, 50000), 100)
-PROGRAMS += [counting_program(seed) for seed in range(25)]
+# In the last four it counts that the inputs found so far are looked at before the next search.
+PROGRAMS += [counting_program(seed) for seed in (*range(22), 120, 259, 451, 999)]
 
 
 def are_told_apart(first, second, inputs):
@@ -51,11 +52,14 @@ class TellApartTest(unittest.TestCase):
 
     def test_small_ones(self):
         for first, second, inputs in (
-            (["answer a"], ["if a == 7", "answer 0", "end", "answer a"], (7,)), (["check a < 3"], ["check a <= 3"], (3,)),
+            (["answer a"], ["if a == 7", "answer 0", "end", "answer a"], (7,)),
+            (["check a < 3"], ["check a <= 3"], (3,)),
             (["check a < 3"], ["if a >= 4", "refuse odd", "end"], (3,)), (["answer a"], ["skip"], (0,)),
-            (["check a != 4"], ["if a == 4", "refuse odd", "end"], (4,)), (["refuse odd"], ["skip", "refuse odd"], None),
+            (["check a != 4"], ["if a == 4", "refuse odd", "end"], (4,)),
+            (["refuse odd"], ["skip", "refuse odd"], None),
             (["check a < 3"], ["skip", "check 3 > a"], None), (["answer a + 1"], ["let c = a", "answer c + 1"], None),
-            (["answer a"], ["let c = 9", "if a < c", "c = a", "end", "answer c"], None), (["skip"], ["skip", "skip"], None),
+            (["answer a"], ["let c = 9", "if a < c", "c = a", "end", "answer c"], None),
+            (["skip"], ["skip", "skip"], None),
             (["answer 5"], ["answer a"], (0,)), (["answer 0"], ["answer a"], (1,)),
         ):
             verdict = ("none",) if inputs is None else ("found", inputs)
@@ -135,8 +139,10 @@ class TellApartTest(unittest.TestCase):
 
     def test_refusals(self):
         good, bad, worse = program_of(*PAIR, "skip"), program_of(HEAD, "b = 3"), program_of(HEAD, "skip", "answer b")
-        long = program_of(*LONG)
-        for first, second, row in ((bad, worse, 2), (worse, bad, 3), (good, worse, 3), (worse, good, 3), (bad, long, 2)):
+        long = TOO_LONG
+        for first, second, row in (
+            (bad, worse, 2), (worse, bad, 3), (good, worse, 3), (worse, good, 3), (bad, long, 2),
+        ):
             with self.assertRaises(BadProgram) as caught:
                 tell_apart(first, second)
             self.assertEqual(caught.exception.row, row)
@@ -185,9 +191,9 @@ class CheckApartTest(unittest.TestCase):
         self.check(True, ("found", (3,)), self.tokens[:3] + (("dead", (3, 2)),) + self.tokens[4:])
 
     def test_verdicts(self):
-        for verdict in (("none",), ("found", (2,)), ("found", (4,)), ("found", ()), ("found", (3, 3)), ("found", (10,)),
-                        ("found", (-1,))):
-            self.check(False, verdict, self.tokens)
+        self.check(False, ("none",), self.tokens)
+        for inputs in ((2,), (4,), (), (3, 3), (10,), (-1,)):
+            self.check(False, ("found", inputs), self.tokens)
 
     def test_a_found_input_that_is_too_great(self):
         self.first, self.second = program_of(HEAD, "answer a"), program_of(HEAD, "check a < 5", "answer a")
@@ -200,7 +206,9 @@ class CheckApartTest(unittest.TestCase):
         for at in range(len(tokens)):
             self.check(False, ("found", (3,)), tokens[:at] + tokens[at + 1:])
             self.check(False, ("found", (3,)), tokens[:at])
-            for other in (ON, OVER, ("dead", (0, 1)), ("dead", ()), ("met", ((1,),)), ("met", ()), ("met", ((2,), (2,)))):
+            for other in (
+                ON, OVER, ("dead", (0, 1)), ("dead", ()), ("met", ((1,),)), ("met", ()), ("met", ((2,), (2,))),
+            ):
                 self.check(False, ("found", (3,)), tokens[:at] + (other,) + tokens[at:])
                 if other != tokens[at]:
                     self.check(False, ("found", (3,)), tokens[:at] + (other,) + tokens[at + 1:])
@@ -253,7 +261,7 @@ class CheckApartTest(unittest.TestCase):
             self.assertIs(check_apart(self.first, self.second, changed), False)
 
     def test_programs_that_are_not_good(self):
-        good, bad, long = program_of(HEAD, "skip"), program_of(HEAD, "b = 3"), program_of(*LONG)
+        good, bad, long = program_of(HEAD, "skip"), program_of(HEAD, "b = 3"), TOO_LONG
         for first, second in ((good, bad), (bad, good), (bad, bad), (good, long), (long, good), (long, long)):
             paper = Paper(write_program(first), ("apart", write_program(second)), ("none",), (OVER,))
             self.assertIs(check_apart(first, second, paper), False)
@@ -315,18 +323,15 @@ class ScoreTest(unittest.TestCase):
 
     def test_refusals(self):
         program = program_of(*PAIR, "check a < 3", "answer b")
-        for inputs in ([[0]], [[0, 0], [0]], [[0, 0], [0, 10]], [[-1, 0]], [[0, 0, 0]], [[]], [[3, 3], [3, 3], [3, -1]],
-                       [(0,)], [[0, 0], "ab"], [[0, True]], [3]):
+        for inputs in (
+            [[0]], [[0, 0], [0]], [[0, 0], [0, 10]], [[-1, 0]], [[0, 0, 0]], [[]], [[3, 3], [3, 3], [3, -1]], [(0,)],
+        ):
             with self.assertRaises(BadInput):
                 score_changes(program, inputs)
         with self.assertRaises(BadInput):
             score_changes(program_of(HEAD, "skip"), [[10]])
         for inputs in ([], [[3]], [[30]]):
-            with self.assertRaises(BadProgram) as caught:
-                score_changes(program_of(HEAD, "skip", "b = 3"), inputs)
-            self.assertEqual(caught.exception.row, 3)
-            with self.assertRaises(TooLong):
-                score_changes(program_of(*LONG), inputs)
+            check_refusals(self, lambda bad: score_changes(bad, inputs))
 
 
 class StrongSuiteTest(unittest.TestCase):
@@ -396,11 +401,7 @@ class StrongSuiteTest(unittest.TestCase):
         self.assertEqual(strong_suite(program), kept)
 
     def test_refusals(self):
-        with self.assertRaises(BadProgram) as caught:
-            strong_suite(program_of(HEAD, "skip", "b = 3"))
-        self.assertEqual(caught.exception.row, 3)
-        with self.assertRaises(TooLong):
-            strong_suite(program_of(*LONG))
+        check_refusals(self, strong_suite)
         with self.assertRaises(TooWide):
             strong_suite(program_of(*checks_of(4096)))
 

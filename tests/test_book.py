@@ -1,11 +1,12 @@
 import random
 import unittest
 
-from samples import LATER, SMALL, checks_of, few_inputs, program_of, random_programs, some_places, verdict_of_all
+from samples import (
+    SMALL, check_refusals, checks_of, few_inputs, program_of, random_programs, some_places, verdict_of_all)
 from wayorring.book import Book
 from wayorring.checker import check_paper
 from wayorring.checks import check_program
-from wayorring.errors import BadEdit, BadPlace, BadProgram, TooLong, TooWide
+from wayorring.errors import BadEdit, BadPlace, TooWide
 from wayorring.papers import Paper
 from wayorring.places import check_place, read_place
 from wayorring.program import statements_of
@@ -15,7 +16,6 @@ from wayorring.walks import PlaceWalk
 from wayorring.writer import write_program, write_statement
 
 HEAD = "input a from 0 to 9"
-LONG = [HEAD, *["while a < 3 at most 8"] * 3, "skip", "skip", *["end"] * 3]
 PROGRAMS = [read_program(text) for text in SMALL] + few_inputs(random_programs(40, 90000), 100)
 
 ROWS = (
@@ -123,11 +123,7 @@ class AskTest(Case):
         self.assertEqual(book.searched, 2)
 
     def test_a_program_that_is_not_good(self):
-        with self.assertRaises(BadProgram) as caught:
-            Book(program_of(HEAD, "skip", "b = 3"))
-        self.assertEqual(caught.exception.row, 3)
-        with self.assertRaises(TooLong):
-            Book(program_of(*LONG))
+        check_refusals(self, Book)
 
 
 class EditTest(Case):
@@ -143,12 +139,15 @@ class EditTest(Case):
 
     def test_each_kind_of_row(self):
         for row, line, written in (
-            (3, "if x==2 or x>5", "if x == 2 or x > 5"), (4, "return 7", "return 7"), (10, "  if not a<5", "if not a < 5"),
+            (3, "if x==2 or x>5", "if x == 2 or x > 5"), (4, "return 7", "return 7"),
+            (10, "  if not a<5", "if not a < 5"),
             (8, "let c = 3", "let c = 3"), (8, " let  c from -1 to 30=a", "let c from -1 to 30 = a"),
             (9, "list ys 5 = a + 1", "list ys 5 = a + 1"), (14, "while c < 8 at most 8", "while c < 8 at most 8"),
             (11, "c = 5", "c = 5"), (11, "ys[2] = 5", "ys[2] = 5"), (11, "check a < 3", "check a < 3"),
-            (11, "refuse odd", "refuse odd"), (11, "answer 3", "answer 3"), (11, "skip", "skip"), (11, "c = f(3)", "c = f(3)"),
-            (12, "c = f(a)", "c = f(a)"), (15, "answer c", "answer c"), (18, "skip", "skip"), (18, "refuse odd", "refuse odd"),
+            (11, "refuse odd", "refuse odd"), (11, "answer 3", "answer 3"), (11, "skip", "skip"),
+            (11, "c = f(3)", "c = f(3)"),
+            (12, "c = f(a)", "c = f(a)"), (15, "answer c", "answer c"), (18, "skip", "skip"),
+            (18, "refuse odd", "refuse odd"),
             (18, "c = f(c+1)", "c = f(c + 1)"), (19, "check c < 3", "check c < 3"), (6, "x = 3", "x = 3"),
             (6, "refuse odd", "refuse odd"), (6, "skip", "skip"), (6, "return x - 1", "return x - 1"),
             (15, "skip", "skip"), (15, "c = c + 1", "c = c + 1"),
@@ -185,13 +184,16 @@ class EditTest(Case):
 
     def test_rows_of_no_statement(self):
         for row in (-1, 0, 1, 2, 5, 7, 13, 16, 17, 20, 99):
-            self.refused(row, "skip", "input a from 0 to 9", "def f(x)", "end", "else", "if a < 3", "while a < 3 at most 2",
-                         "let c = 3", "list ys 3 = c", "return x", "answer a")
+            self.refused(
+                row, "skip", "input a from 0 to 9", "def f(x)", "end", "else", "if a < 3", "while a < 3 at most 2",
+                "let c = 3", "list ys 3 = c", "return x", "answer a")
 
     def test_lines_that_are_no_statement(self):
         lines = (
-            "", " ", "else", "end", "input b from 0 to 9", "def g()", "c", "c =", "c == 3", "skip skip", "c = 3\n", "c = 3\nskip",
-            "\nskip", "c = 3 # odd", "C = 3", "check", "check a", "check a < ", "refuse", "refuse if", "answer", "c = f(a",
+            "", " ", "else", "end", "input b from 0 to 9", "def g()", "c", "c =", "c == 3", "skip skip", "c = 3\n",
+            "c = 3\nskip",
+            "\nskip", "c = 3 # odd", "C = 3", "check", "check a", "check a < ", "refuse", "refuse if", "answer",
+            "c = f(a",
             "c = ys[ys[0]]", "c = a + a", "c = 01", "if a < 3 skip", "row 3", "skip\t", "c = 3;", "check (a < 3",
         )
         for row in (4, 11, 12, 18, 19):
@@ -215,8 +217,9 @@ class EditTest(Case):
         self.refused(9, "list zs 3 = c", "list c 3 = c", "list a 3 = c", "list y 3 = c")
 
     def test_a_program_that_is_not_good(self):
-        self.refused(11, "a = 3", "d = 3", "c = d", "c = ys", "c = c[0]", "ys = 3", "return 3", "c = g(a)", "c = f(a, a)",
-                     "c = 1000000", "c = a - 1000000", "refuse range", "refuse index", "refuse turns", "check d < 3")
+        self.refused(11, "a = 3", "d = 3", "c = d", "c = ys", "c = c[0]", "ys = 3", "return 3", "c = g(a)", "c = f()",
+                     "c = f(a, a)", "c = 1000000", "c = a - 1000000", "refuse range", "refuse index", "refuse turns",
+                     "check d < 3")
         self.refused(4, "answer 3", "return a", "x = c", "x = f(x)")
         self.refused(8, "let c from 5 to 4 = a", "let c from 0 to 1000000001 = a", "let c = c", "let c = ys[0]")
         self.refused(9, "list ys 7 = c", "list ys 0 = c", "list ys 3 = ys[0]")
@@ -320,9 +323,11 @@ class KeptTest(Case):
     def test_a_place_that_is_no_longer_good(self):
         self.ask("row 10")
         for row, before, after, text in (
-            (15, "c = c + 1", "skip", "row 9 then fault 15 range"), (18, "check c != 9", "skip", "row 9 then fault 18 check"),
+            (15, "c = c + 1", "skip", "row 9 then fault 15 range"),
+            (18, "check c != 9", "skip", "row 9 then fault 18 check"),
             (14, "while c < 9 at most 4", "while c < 9 at most 3", "row 9 then turn 14 4"),
-            (19, "answer ys[1]", "answer c", "row 9 then fault 19 index"), (18, "check c != 9", "refuse odd", "row 9 then no 18"),
+            (19, "answer ys[1]", "answer c", "row 9 then fault 19 index"),
+            (18, "check c != 9", "refuse odd", "row 9 then no 18"),
         ):
             rows = list(ROWS[:9]) + ["answer c"] + list(ROWS[9:])
             self.book = Book(program_of(*[line.strip() for line in rows]))
@@ -434,7 +439,8 @@ class KeptTest(Case):
         statement = chance.choice(statements_of(program))
         if statement[0] in ("if", "while", "let", "list"):
             line = write_statement(statement)
-            return statement[1], line.replace(chance.choice(["<", ">", "==", "1", "2"]), chance.choice(["!=", ">=", "3"]))
+            old, new = chance.choice(["<", ">", "==", "1", "2"]), chance.choice(["!=", ">=", "3"])
+            return statement[1], line.replace(old, new)
         lines = [write_statement(other) for other in statements_of(program)
                  if other[0] not in ("if", "while", "let", "list")]
         return statement[1], chance.choice(lines + ["skip", "refuse odd", "check 1 < 2", "check 2 < 1"])

@@ -1,7 +1,7 @@
 import random
 import unittest
 
-from samples import SMALL, checks_of, few_inputs, program_of, random_programs, some_places
+from samples import SMALL, TOO_LONG, checks_of, few_inputs, program_of, random_programs, some_places
 from wayorring.checker import check_paper, follow
 from wayorring.checks import check_program
 from wayorring.papers import Paper, read_paper, write_paper
@@ -208,7 +208,8 @@ class HandmadeTest(Case):
         self.assertEqual(paper.verdict, ("found", (0, -4)))
         self.accepted(paper.verdict, *paper.tokens)
         for inputs in (
-            (0, -3), (0, -5), (1, -3), (3, -5), (3, 5), (0,), (), (0, -4, 0), (-1, -5), (10, 6), (9, 5), (8, 4), (-4, 0),
+            (0, -3), (0, -5), (1, -3), (3, -5), (3, 5), (0,), (), (0, -4, 0), (-1, -5), (10, 6), (9, 5), (8, 4),
+            (-4, 0),
             (0, -400), (10 ** 20, 0), (-10 ** 20, -10 ** 20),
         ):
             self.refused(("found", inputs), *paper.tokens)
@@ -297,10 +298,10 @@ class HandmadeTest(Case):
         self.use([HEAD, "check a > 3", "answer a"], "row 3")
         right = self.paper(("found", (4,)), (ON, ("met", ((2,),)), ON, OVER))
         self.assertTrue(check_paper(self.program, self.place, right))
-        for text in ("", right.text + "\n", right.text.replace(">", ">="), right.text.replace(" ", "  "), right.text + " "):
+        for text in ("", right.text + "\n", right.text.replace(">", ">="), right.text.replace(" ", "  "), "skip"):
             paper = Paper(text, right.subject, right.verdict, right.tokens)
             self.assertIs(check_paper(self.program, self.place, paper), False)
-        for subject in (("place", "row 2"), ("place", ""), ("place", "row  3"), ("apart", "row 3"), ("apart", right.text)):
+        for subject in (("place", "row 2"), ("place", ""), ("place", "row  3"), ("apart", "row 3"), ("apart", "")):
             paper = Paper(right.text, subject, right.verdict, right.tokens)
             self.assertIs(check_paper(self.program, self.place, paper), False)
         for place in ("row 2", "yes 2", "row 2 then row 3", "when 3: a > 3"):
@@ -319,9 +320,7 @@ class HandmadeTest(Case):
         place = (("row", 2),)
         paper = Paper(write_program(bad), ("place", "row 2"), ("found", (0,)), (("met", ((1,),)),))
         self.assertIs(check_paper(bad, place, paper), False)
-        rows = [HEAD, "skip"] + ["while a < 3 at most 8"] * 3 + ["skip", "skip"] + ["end"] * 3
-        self.assertIs(check_paper(program_of(*rows), place, Paper(
-            write_program(program_of(*rows)), paper.subject, paper.verdict, paper.tokens)), False)
+        self.assertIs(check_paper(TOO_LONG, place, Paper(write_program(TOO_LONG), *self.rest(paper))), False)
         good = program_of(HEAD, "skip", "skip")
         self.assertTrue(check_paper(good, place, Paper(write_program(good), *self.rest(paper))))
 
@@ -330,7 +329,8 @@ class HandmadeTest(Case):
         for place, text in (
             ((("row", 9),), "row 9"), ((("row", 1),), "row 1"), ((("yes", 2),), "yes 2"), ((), ""),
             ((("row", 3),) * 4, " then ".join(["row 3"] * 4)), ([("row", 3)], "row 3"),
-            ((("fault", 2, "odd"),), "fault 2 odd"), ((("when", 2, "<", ("var", "b", 0), ("num", 1)),), "when 2: b < 1"),
+            ((("fault", 2, "odd"),), "fault 2 odd"),
+            ((("when", 2, "<", ("var", "b", 0), ("num", 1)),), "when 2: b < 1"),
         ):
             paper = Paper(write_program(good), ("place", text), ("none",), (OVER,))
             self.assertIs(check_paper(good, place, paper), False, text)
@@ -373,7 +373,8 @@ class FollowTest(Case):
         program = program_of(*PAIR, "check b > a + 2", "skip")
         place = (("row", 4),)
         for floors, values in (
-            (((1,), (1, 4)), [0, 3]), (((1,), (3,)), [0, 0]), (((1, 0, 1), (3,)), [-9, 0]), (((1,), (1, 0, 3)), [0, -9]),
+            (((1,), (1, 4)), [0, 3]), (((1,), (3,)), [0, 0]), (((1, 0, 1), (3,)), [-9, 0]),
+            (((1,), (1, 0, 3)), [0, -9]),
         ):
             self.assertEqual(follow(PlaceWalk(program, place), (ON, ("met", floors), ON, OVER)), [values])
         for floors in ((), ((1,),), ((1,), ()), ((1,), (2,)), ((3,), (3,)), ((1,), (3,), (3,))):

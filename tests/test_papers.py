@@ -45,8 +45,8 @@ class WriteTest(unittest.TestCase):
 
     def test_rows_that_look_like_those_of_a_paper(self):
         self.check(
-            Paper("found 1\non\ntext 2", ("apart", "none\nover\nplace x"), ("none",), (("over",),)), "text 3", "found 1",
-            "on", "text 2", "apart 3", "none", "over", "place x", "none", "over")
+            Paper("found 1\non\ntext 2", ("apart", "none\nover\nplace x"), ("none",), (("over",),)),
+            "text 3", "found 1", "on", "text 2", "apart 3", "none", "over", "place x", "none", "over")
 
     def test_only_a_newline_parts_rows(self):
         self.check(
@@ -152,34 +152,34 @@ class BadPaperTest(unittest.TestCase):
     def test_the_first_row(self):
         for row in (
             "", "text", "text ", "text 0", "text -1", "text 01", "text +1", "text  1", " text 1", "text 1 ", "text 1 1",
-            "text a", "Text 1", "texts 1", "apart 1", "text1", "text 1.0", "text\t1", "text 1000000000000", "text \u0661",
-            "text \u00b2", "text 1\r", "1", "text,1", "text 1,", "place 1", "none",
+            "text a", "Text 1", "texts 1", "apart 1", "text1", "text 1.0", "text\t1", "text 1000000000000",
+            "text \u0661", "text \u00b2", "text 1\r", "1", "text,1", "text 1,", "place 1", "none",
         ):
             self.check_rows([row, "a", "place b", "none", "on"], 1)
 
     def test_the_subject(self):
         for row in (
             "", "place", "apart", "apart ", "apart 0", "apart -1", "apart 01", "apart  1", " apart 1", "apart 1 ",
-            "apart 1 1", "apart a", "apart 1000000000000", " place b", "Place b", "places b", "plac e", "none", "found 1",
-            "place\tb", "text 1", "apart \u0661",
+            "apart 1 1", "apart a", "apart 1000000000000", " place b", "Place b", "places b", "plac e", "none",
+            "found 1", "place\tb", "text 1", "apart \u0661",
         ):
             self.check_rows(["text 2", "a", "text 1", row, "none", "none", "on"], 4)
 
     def test_the_verdict(self):
         for row in (
             "", "none ", " none", "none 1", "nothing", "found", "found ", "found  1", "found 1 ", "found a", " found 1",
-            "found 01", "found -0", "found +1", "found - 1", "found --1", "found 1  2", "found 1,2", "found -01", "found -",
-            "found 1000000000000", "found -1000000000000", "found 1 2 3 x", "found 1 00", "foun 1", "Found 1", "on",
-            "found \u00b2", "found 1.5", "found 1_0", "dead 1", "met 1",
+            "found 01", "found -0", "found +1", "found - 1", "found --1", "found 1  2", "found 1,2", "found -01",
+            "found -", "found 1000000000000", "found -1000000000000", "found 1 2 3 x", "found 1 00", "foun 1",
+            "Found 1", "on", "found \u00b2", "found 1.5", "found 1_0", "dead 1", "met 1",
         ):
             self.check_rows(["text 1", "a", "place b", row, "on"], 4)
             self.check_rows(["text 1", "a", "apart 1", "b", row, "on"], 5)
 
     def test_tokens(self):
         for row in (
-            "", "on ", " on", "on 1", "On", "over ", " over", "over 1", "dead", "dead ", "dead  1", "dead 1 ", " dead 1",
-            "dead -1", "dead 1 -1", "dead -0", "dead 01", "dead 1 00", "dead a", "dead 1,2", "dead 1  2", "dead +1",
-            "dead 1000000000000", "dead 1 1000000000000", "met", "met ", "met  1", "met 1 ", " met 1", "met -1",
+            "", "on ", " on", "on 1", "On", "over ", " over", "over 1", "dead", "dead ", "dead  1", "dead 1 ",
+            " dead 1", "dead -1", "dead 1 -1", "dead -0", "dead 01", "dead 1 00", "dead a", "dead 1,2",
+            "dead 1  2", "dead +1", "dead 1000000000000", "dead 1 1000000000000", "met", "met ", "met  1", "met 1 ", " met 1", "met -1",
             "met 1,-1", "met -0", "met 01", "met 1,02", "met a", "met 1,", "met ,1", "met ,", "met 1,,2", "met 1  2",
             "met 1, 2", "met 1 ,2", "met 1000000000000", "met 1,1000000000000", "none", "found 1", "met 1;2", "way",
             "dead \u0661", "met \u00b2", "dead 1_0",

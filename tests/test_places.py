@@ -92,7 +92,8 @@ class RefusedTest(unittest.TestCase):
             "row row 7", "row 7 7", "yes 3 3", "yes yes 3", "no 3 no 3", "turn 9 2 2", "turn turn 9 2",
             "fault 5 index index",
             "fault 5 5 index", "fault fault 5 index", "when 6 6: a < 1", "when 6:: a < 1", "when when 6: a < 1",
-            "when 6: a < < 1", "when 6: a a < 1", "when 6: a < 1 1", "when 6: a < 1 < 2", "row 1 then then row 2",
+            "when 6: a < < 1", "when 6, a < 1", "when 6 = a < 1", "when 6 b a < 1", "when 6 : : a < 1",
+            "when 6: a a < 1", "when 6: a < 1 1", "when 6: a < 1 < 2", "row 1 then then row 2",
         )
 
     def test_four_atoms(self):

@@ -2,12 +2,13 @@ import random
 import unittest
 
 from samples import (
-    SMALL, Tree, checks_of, few_inputs, least_values, program_of, random_programs, some_places, verdict_of_all)
+    SMALL, Tree, check_refusals, checks_of, few_inputs, least_values, program_of, random_programs, some_places,
+    verdict_of_all)
 from wayorring.chains import floor_value, is_ring
 from wayorring.checks import check_program
-from wayorring.errors import BadPlace, BadProgram, TooLong, TooWide
+from wayorring.errors import BadPlace, BadProgram, TooWide
 from wayorring.papers import Paper
-from wayorring.places import read_place, standing, write_place
+from wayorring.places import read_place, standing
 from wayorring.reader import read_program
 from wayorring.search import explore, find_least
 from wayorring.walks import PlaceWalk
@@ -66,7 +67,9 @@ class FindLeastTest(Case):
 
     def test_ways_of_a_condition(self):
         rows = PAIR + ["if a > b + 2 and b != 0", "skip", "end", "check a < b or a == 4"]
-        for text, inputs in (("yes 3", (4, 1)), ("no 3", (0, 0)), ("yes 6", (0, 1)), ("no 6", (0, 0)), ("row 4", (4, 1))):
+        for text, inputs in (
+            ("yes 3", (4, 1)), ("no 3", (0, 0)), ("yes 6", (0, 1)), ("no 6", (0, 0)), ("row 4", (4, 1)),
+        ):
             self.found(rows, text, *inputs)
 
     def test_loops(self):
@@ -101,7 +104,8 @@ class FindLeastTest(Case):
         self.found([HEAD, "let c from -4 to 5 = a", "check c < 5"], "fault 2 range", 6)
 
     def test_several_atoms(self):
-        rows = [HEAD, "let i = 0", "while i < 3 at most 3", "if i == a", "skip", "end", "i = i + 1", "end", "check a < 1"]
+        rows = [HEAD, "let i = 0", "while i < 3 at most 3", "if i == a", "skip", "end", "i = i + 1", "end"]
+        rows.append("check a < 1")
         for text, inputs in (
             ("yes 4", (0,)), ("turn 3 2 then yes 4", (1,)), ("turn 3 3 then yes 4 then row 9", (2,)),
             ("yes 4 then yes 4", None), ("yes 4 then turn 3 2", (0,)), ("row 5 then turn 3 3 then no 9", (1,)),
@@ -129,10 +133,9 @@ class FindLeastTest(Case):
         self.found(["input a from 1 to 9", "skip", "list xs 2 = a", "skip"], "when 4: xs[a] == a", 1)
 
     def test_equal_conditions(self):
-        for sign in ("==", "<=", ">="):
-            self.found(["input a from 3 to 9", "input b from 5 to 7", f"check a {sign} b"], "yes 3",
-                       *{"==": (5, 5), "<=": (3, 5), ">=": (5, 5)}[sign])
-            self.found(["input a from 3 to 9", f"check a {sign} 6"], "yes 2", *{"==": (6,), "<=": (3,), ">=": (6,)}[sign])
+        for sign, inputs, number in (("==", (5, 5), 6), ("<=", (3, 5), 3), (">=", (5, 5), 6)):
+            self.found(["input a from 3 to 9", "input b from 5 to 7", f"check a {sign} b"], "yes 3", *inputs)
+            self.found(["input a from 3 to 9", f"check a {sign} 6"], "yes 2", number)
         rows = ["input xs list 3 from 0 to 9", "input a from 1 to 2", "check xs[a] == xs[a - 1] + 4", "answer xs[a]"]
         self.found(rows, "row 4", 0, 0, 4, 2)
         self.found(["input xs list 2 from 0 to 9", "check xs[0] + 1 == xs[1]", "check xs[1] == 7"], "yes 3", 6, 7)
@@ -174,7 +177,8 @@ class FindLeastTest(Case):
         self.assertEqual([floor_value(ties, floor, k) for k, floor in enumerate(floors, start=1)], [5, 3])
         rows = PAIR + ["if a > 4", "if b < 3", "check a > b"]
         paper = self.search(rows + ["end", "end"], "no 5")
-        self.assertEqual([token[0] for token in paper.tokens], ["on", "on", "on", "over", "dead", "on", "over", "on", "over"])
+        self.assertEqual([token[0] for token in paper.tokens], [
+            "on", "on", "on", "over", "dead", "on", "over", "on", "over"])
         ties = [(1, 0, 9), (0, 1, 0), (2, 0, 9), (0, 2, 0), (0, 1, -5), (2, 0, 2), (1, 2, 0)]
         self.assertTrue(is_ring(ties, paper.tokens[4][1]))
 
@@ -202,16 +206,9 @@ class FindLeastTest(Case):
 class RefusalTest(Case):
 
     def test_a_program_that_is_not_good_comes_first(self):
-        long = program_of(HEAD, "while a < 3 at most 8", "while a < 3 at most 8", "while a < 3 at most 8", "skip", "skip",
-                          "end", "end", "end")
-        bad = program_of(HEAD, "skip", "b = 3")
         wide = program_of(*checks_of(4096)[:-1], "b = 3")
         for place in ((), (("row", 9),), (("row", 2),), [("row", 2)]):
-            with self.assertRaises(BadProgram) as caught:
-                find_least(bad, place)
-            self.assertEqual(caught.exception.row, 3)
-            with self.assertRaises(TooLong):
-                find_least(long, place)
+            check_refusals(self, lambda program: find_least(program, place))
             with self.assertRaises(BadProgram):
                 find_least(wide, place)
 

@@ -2,8 +2,9 @@ import itertools
 import random
 import unittest
 
-from samples import LATER, SMALL, checks_of, choosing_program, few_inputs, program_of, random_programs
-from wayorring.errors import BadProgram, TooLong, TooWide
+from samples import (
+    LATER, SMALL, check_refusals, checks_of, choosing_program, few_inputs, program_of, random_programs)
+from wayorring.errors import TooWide
 from wayorring.meaning import run_program
 from wayorring.reader import read_program
 from wayorring.shortest import check_shortest, greatest_sets, shortest_suite
@@ -12,7 +13,8 @@ from wayorring.survey import reachable, survey_program
 from wayorring.writer import write_program
 
 HEAD = "input a from 0 to 9"
-CHOOSING = [choosing_program(seed) for seed in (1, 2, 3, 29, 115, 147, 148, 191, 253, 263, 272, 285, 398, 409, 609, 722)]
+SEEDS = (1, 2, 3, 29, 115, 147, 148, 191, 253, 263, 272, 285, 398, 409, 609, 722)
+CHOOSING = [choosing_program(seed) for seed in SEEDS]
 LOOPS = [
     program_of(HEAD, "let i = 0", "while i < a at most 8", "i = i + 1", "if a == 20", "skip", "end", "end"),
     program_of(HEAD, "let i = 0", "while i < a at most 4", "i = i + 1", "end", "check i < 3"),
@@ -84,7 +86,8 @@ class GreatestSetsTest(unittest.TestCase):
         rows = [HEAD, "while a < 3 at most 2", "if a == 1", "answer a", "end", "skip", "end"]
         self.assertEqual(self.sets(*rows), [
             (("row", 2), ("row", 3), ("row", 4), ("turn", 2, 1), ("yes", 2), ("yes", 3)),
-            (("fault", 2, "turns"), ("no", 3), ("row", 2), ("row", 3), ("row", 6), ("turn", 2, 1), ("turn", 2, 2), ("yes", 2)),
+            (("fault", 2, "turns"), ("no", 3), ("row", 2), ("row", 3), ("row", 6), ("turn", 2, 1), ("turn", 2, 2),
+             ("yes", 2)),
             (("no", 2), ("row", 2)),
         ])
         rows = [HEAD, "let i = 0", "while i < a at most 8", "i = i + 1", "end"]
@@ -204,11 +207,7 @@ class ShortestSuiteTest(unittest.TestCase):
         self.assertEqual(shortest_suite(program), kept)
 
     def test_refusals(self):
-        with self.assertRaises(BadProgram) as caught:
-            shortest_suite(program_of(HEAD, "skip", "b = 3"))
-        self.assertEqual(caught.exception.row, 3)
-        with self.assertRaises(TooLong):
-            shortest_suite(program_of(HEAD, *["while a < 3 at most 8"] * 3, "skip", "skip", *["end"] * 3))
+        check_refusals(self, shortest_suite)
         with self.assertRaises(TooWide):
             shortest_suite(program_of(*checks_of(4096)))
         self.assertEqual(shortest_suite(program_of(*checks_of(4095)))[0], [(0,)])
@@ -244,12 +243,13 @@ class CheckShortestTest(unittest.TestCase):
     def test_two_sets(self):
         sets = [row(1, 2), row(3, 4), row(5, 6), row(1, 3, 5)]
         self.accepted(
-            sets, 2, [2, 4, 6], [6, 4, 2], [2, 3, 6, 4], [1, 4, 6, 2], [1, 4, 6, 4, 2], [1, 4, 6, 4, 6], [1, 4, 6, 6, 2],
-            [1, 6, 4, 2], [3, 2, 6, 4], [5, 2, 4, 6], [2, 5, 4, 6])
+            sets, 2, [2, 4, 6], [6, 4, 2], [2, 3, 6, 4], [1, 4, 6, 2], [1, 4, 6, 4, 2], [1, 4, 6, 4, 6],
+            [1, 4, 6, 6, 2], [1, 6, 4, 2], [3, 2, 6, 4], [5, 2, 4, 6], [2, 5, 4, 6])
         self.refused(
-            sets, 2, [], [2], [2, 4], [2, 6, 6], [1, 4, 6], [1, 2, 4, 6], [2, 4, 6, 4], [1, 4, 6, 2, 4], [1, 4, 6, 2, 2],
-            [1, 4, 6, 2, 4, 6], [1, 4, 6, 1], [1, 4, 6, 3], [1, 4, 6, 5], [1, 4, 5, 3], [2, 4, 1], [2, 4, 3], [2, 1, 6],
-            [7, 4, 6], [2, 7, 6], [2, 4, 7], [2, 3, 4, 6], [2, 3, 6], [2, 3, 6, 3], [1, 4, 6, 4], [1, 4, 6, 4, 3])
+            sets, 2, [], [2], [2, 4], [2, 6, 6], [1, 4, 6], [1, 2, 4, 6], [2, 4, 6, 4], [1, 4, 6, 2, 4],
+            [1, 4, 6, 2, 2], [1, 4, 6, 2, 4, 6], [1, 4, 6, 1], [1, 4, 6, 3], [1, 4, 6, 5], [1, 4, 5, 3], [2, 4, 1],
+            [2, 4, 3], [2, 1, 6], [7, 4, 6], [2, 7, 6], [2, 4, 7], [2, 3, 4, 6], [2, 3, 6], [2, 3, 6, 3], [1, 4, 6, 4],
+            [1, 4, 6, 4, 3])
         self.refused(sets, 3, [2, 4, 6], [2, 4, 6, 1], [1, 4, 6, 2], [2, 4, 6, 5])
         self.accepted(sets, 1, [2, 4], [2, 3], [1, 3, 2], [1, 6, 4], [5, 1, 6])
         self.refused(sets, 1, [2, 4, 6], [1, 3], [1, 5, 5], [1, 3, 3], [1, 3, 1])
@@ -301,7 +301,8 @@ class CheckShortestTest(unittest.TestCase):
             suite, paper = shortest_suite(program)
             for at in range(len(paper)):
                 for spoilt in (
-                    paper[:at] + paper[at + 1:], paper[:at] + [paper[at]] + paper[at:], paper[:at], paper[at:] + paper[:at],
+                    paper[:at] + paper[at + 1:], paper[:at] + [paper[at]] + paper[at:], paper[:at],
+                    paper[at:] + paper[:at],
                     paper[:at] + [("row", 99)] + paper[at + 1:], paper[:at + 1][::-1] + paper[at + 1:],
                 ):
                     self.assertIs(check_shortest(sets, len(suite) - 1, spoilt), shows(sets, len(suite) - 1, spoilt))

@@ -1,8 +1,9 @@
 import unittest
 
-from samples import LATER, SMALL, checks_of, choosing_program, few_inputs, program_of, random_programs, runs_of
+from samples import (
+    LATER, SMALL, check_refusals, checks_of, choosing_program, few_inputs, program_of, random_programs, runs_of)
 from wayorring.checker import check_paper
-from wayorring.errors import BadProgram, TooLong, TooWide
+from wayorring.errors import TooWide
 from wayorring.meaning import run_program
 from wayorring.papers import Paper, read_paper, write_paper
 from wayorring.places import standing
@@ -90,7 +91,7 @@ class MakeSuiteTest(unittest.TestCase):
         self.assertEqual(make_suite(program), [(0,), (6,)])
 
     def test_events_that_are_reached_already_do_not_count(self):
-        rows = [HEAD, "if a < 3", *["skip"] * 6, "if a == 1", "skip", "skip", "end", "else", "skip", "skip", "skip", "end"]
+        rows = [HEAD, "if a < 3", *["skip"] * 6, "if a == 1", "skip", "skip", "end", "else", *["skip"] * 3, "end"]
         # Behind (1,), the way of 0 has one event that is not reached yet, and that of 3 four.
         self.assertEqual(make_suite(program_of(*rows)), [(1,), (3,), (0,)])
 
@@ -121,11 +122,7 @@ class MakeSuiteTest(unittest.TestCase):
 
     def test_refusals(self):
         for make in (make_suite, unreachable):
-            with self.assertRaises(BadProgram) as caught:
-                make(program_of(HEAD, "skip", "b = 3"))
-            self.assertEqual(caught.exception.row, 3)
-            with self.assertRaises(TooLong):
-                make(program_of(HEAD, *["while a < 3 at most 8"] * 3, "skip", "skip", *["end"] * 3))
+            check_refusals(self, make)
             with self.assertRaises(TooWide):
                 make(program_of(*checks_of(4096)))
         self.assertEqual(make_suite(program_of(*checks_of(4095))), [(0,)])
@@ -134,7 +131,8 @@ class MakeSuiteTest(unittest.TestCase):
 class UnreachableTest(unittest.TestCase):
 
     def test_a_small_one(self):
-        program = program_of(HEAD, "list xs 3 = 0", "check a < 5", "while a > 9 at most 1", "skip", "end", "answer xs[1]")
+        rows = [HEAD, "list xs 3 = 0", "check a < 5", "while a > 9 at most 1", "skip", "end", "answer xs[1]"]
+        program = program_of(*rows)
         found = unreachable(program)
         self.assertEqual([atom for atom, paper in found], [
             ("fault", 4, "turns"), ("fault", 7, "index"), ("row", 5), ("turn", 4, 1), ("yes", 4)])
@@ -165,6 +163,8 @@ class UnreachableTest(unittest.TestCase):
                 self.assertIsInstance(told, tuple)
                 atom, paper = told
                 self.assertIsInstance(paper, Paper)
+                for held in (paper.subject, paper.verdict, paper.tokens):
+                    self.assertIsInstance(held, tuple)
                 self.assertEqual(paper.verdict, ("none",))
                 self.assertTrue(check_paper(program, (atom,), paper))
                 self.assertTrue(check_paper(program, (atom,), read_paper(write_paper(paper))))

@@ -1,9 +1,10 @@
 import unittest
 
 from samples import (
-    LATER, SMALL, Tree, all_inputs, checks_of, events_of, few_inputs, program_of, random_programs, runs_of)
+    LATER, SMALL, Tree, all_inputs, check_refusals, checks_of, events_of, few_inputs, program_of, random_programs,
+    runs_of)
 from wayorring.chains import keeps
-from wayorring.errors import BadProgram, TooLong, TooWide
+from wayorring.errors import TooWide
 from wayorring.formrun import FormRun
 from wayorring.meaning import run_program
 from wayorring.program import Program
@@ -97,11 +98,7 @@ class SurveyTest(unittest.TestCase):
         self.assertEqual(tuple(whole.events), ways[way_of(ways, [0, 0, 0, 0])].events)
 
     def test_refusals(self):
-        with self.assertRaises(BadProgram) as caught:
-            survey_program(program_of(HEAD, "skip", "b = 3"))
-        self.assertEqual(caught.exception.row, 3)
-        with self.assertRaises(TooLong):
-            survey_program(program_of(HEAD, *["while a < 3 at most 8"] * 3, "skip", "skip", *["end"] * 3))
+        check_refusals(self, survey_program)
         with self.assertRaises(TooWide):
             survey_program(program_of(*checks_of(4096)))
         with self.assertRaises(TooWide):
@@ -134,7 +131,9 @@ class WayOfTest(unittest.TestCase):
 
     def test_lists_and_tuples(self):
         ways = survey_program(program_of(*PAIR, "if a > b + 2", "answer a + 1", "end", "check b == 5"))
-        for inputs, number in (([3, 0], 0), ([9, 6], 0), ([2, 0], 2), ([0, 5], 1), ([7, 5], 1), ([8, 5], 0), ([9, 9], 3)):
+        for inputs, number in (
+            ([3, 0], 0), ([9, 6], 0), ([2, 0], 2), ([0, 5], 1), ([7, 5], 1), ([8, 5], 0), ([9, 9], 3),
+        ):
             given = list(inputs)
             self.assertEqual(way_of(ways, given), number)
             self.assertEqual(given, inputs)

@@ -35,12 +35,16 @@ def _changed_statements(statement):
         for kind, condition in _changed_conditions(statement):
             found.append((kind, statement[:2] + (condition,) + statement[3:]))
     if statement[0] in ("let", "list", "set", "put", "answer", "return"):
-        expression = statement[-1]
         for kind, step in (("more", 1), ("less", -1)):
-            found.append((kind, statement[:-1] + (expression[:-1] + (expression[-1] + step,),)))
+            found.append((kind, statement[:-1] + (_stepped(statement[-1], step),)))
     if statement[0] in ("set", "put", "call", "check"):
         found.append(("out", ("skip", statement[1])))
     return found
+
+
+def _stepped(expression, step):
+    """The expression plus a step, which is added to n or to plus."""
+    return expression[:-1] + (expression[-1] + step,)
 
 
 def _changed_conditions(statement):

@@ -20,14 +20,12 @@ def shortest_suite(program):
     if len(greatest) > MOST_SETS:
         raise TooWide("there are too many greatest sets")
     sets = [events for events, way in greatest]
-    many = 0
-    paper = []
-    nodes, chosen = _try_sets(sets, many)
+    papers = []
+    nodes, chosen = _try_sets(sets, 0)
     while chosen is None:
-        many += 1
-        paper = nodes
-        nodes, chosen = _try_sets(sets, many)
-    return [greatest[number][1].least for number in chosen], paper
+        papers.append(nodes)
+        nodes, chosen = _try_sets(sets, len(papers))
+    return [greatest[number][1].least for number in chosen], papers[-1]
 
 
 def check_shortest(sets, many, paper):
