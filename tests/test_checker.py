@@ -209,8 +209,7 @@ class HandmadeTest(Case):
         self.accepted(paper.verdict, *paper.tokens)
         for inputs in (
             (0, -3), (0, -5), (1, -3), (3, -5), (3, 5), (0,), (), (0, -4, 0), (-1, -5), (10, 6), (9, 5), (8, 4),
-            (-4, 0),
-            (0, -400), (10 ** 20, 0), (-10 ** 20, -10 ** 20),
+            (-4, 0), (0, -400), (10 ** 20, 0), (-10 ** 20, -10 ** 20),
         ):
             self.refused(("found", inputs), *paper.tokens)
 

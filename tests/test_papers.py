@@ -178,11 +178,11 @@ class BadPaperTest(unittest.TestCase):
     def test_tokens(self):
         for row in (
             "", "on ", " on", "on 1", "On", "over ", " over", "over 1", "dead", "dead ", "dead  1", "dead 1 ",
-            " dead 1", "dead -1", "dead 1 -1", "dead -0", "dead 01", "dead 1 00", "dead a", "dead 1,2",
-            "dead 1  2", "dead +1", "dead 1000000000000", "dead 1 1000000000000", "met", "met ", "met  1", "met 1 ", " met 1", "met -1",
-            "met 1,-1", "met -0", "met 01", "met 1,02", "met a", "met 1,", "met ,1", "met ,", "met 1,,2", "met 1  2",
-            "met 1, 2", "met 1 ,2", "met 1000000000000", "met 1,1000000000000", "none", "found 1", "met 1;2", "way",
-            "dead \u0661", "met \u00b2", "dead 1_0",
+            " dead 1", "dead -1", "dead 1 -1", "dead -0", "dead 01", "dead 1 00", "dead a", "dead 1,2", "dead 1  2",
+            "dead +1", "dead 1000000000000", "dead 1 1000000000000", "met", "met ", "met  1", "met 1 ", " met 1",
+            "met -1", "met 1,-1", "met -0", "met 01", "met 1,02", "met a", "met 1,", "met ,1", "met ,", "met 1,,2",
+            "met 1  2", "met 1, 2", "met 1 ,2", "met 1000000000000", "met 1,1000000000000", "none", "found 1",
+            "met 1;2", "way", "dead \u0661", "met \u00b2", "dead 1_0",
         ):
             self.check_rows(["text 1", "a", "place b", "none", row], 5)
             self.check_rows(["text 1", "a", "place b", "none", "on", "dead 1", row, "on", "nothing"], 7)
